@@ -1,0 +1,38 @@
+package warren
+
+import "warren/api"
+
+// stand is what a fid holds.
+type stand struct {
+	at   *place // none: the fid stands nowhere
+	open bool
+}
+
+// isFid tells whether a number may be a fid.
+func isFid(number int) bool {
+	return 0 <= number && number <= api.MaxFid
+}
+
+// standing gives what a fid holds, or nil if it stands nowhere.
+func (s *Server) standing(fid int) *stand {
+	if !isFid(fid) || s.fids[fid].at == nil {
+		return nil
+	}
+	return &s.fids[fid]
+}
+
+// checkWalk tells what keeps a walk from its first step.
+func (s *Server) checkWalk(fid int, to int, names []string) api.Errno {
+	held := s.standing(fid)
+	switch {
+	case held == nil:
+		return api.ErrFid
+	case held.open:
+		return api.ErrOpen
+	case !isFid(to):
+		return api.ErrArg
+	case to != fid && s.standing(to) != nil:
+		return api.ErrFid
+	}
+	return checkNames(names)
+}

@@ -1,0 +1,126 @@
+package warren
+
+import (
+	"math"
+	"strings"
+	"testing"
+
+	"warren/api"
+)
+
+// numbers: fids in and out of bounds, and what is farthest out.
+var numbers = []int{math.MinInt, -51, -1, 0, 1, 49, 50, 51, 1 << 32, math.MaxInt}
+
+// wrongNames are neither a NAME nor a step of a walk.
+var wrongNames = []string{"", "/", "a/b", "/a", "a/", "a b", " ", "\x00", "\x20", "\x7f", "\x80", "é", "\xff", "a\n", strings.Repeat("n", 13), strings.Repeat("n", 1<<20)}
+
+// rightNames are NAMES, those at the edges among them.
+var rightNames = []string{"!", "~", "a", "...", ".a", "a.", "..a", "0", "-", "\\", strings.Repeat("n", 12), "............"}
+
+func want(t *testing.T, what string, got, wanted api.Errno) {
+	t.Helper()
+	if got != wanted {
+		t.Errorf("%s: %d, want %d", what, got, wanted)
+	}
+}
+
+func wantWalk(t *testing.T, s *Server, fid, to int, names string, steps int, wanted api.Errno) {
+	t.Helper()
+	if n, e := s.Walk(fid, to, strings.Fields(names)...); n != steps || e != wanted {
+		t.Errorf("Walk(%d, %d, %s): %d, %d, want %d, %d", fid, to, names, n, e, steps, wanted)
+	}
+}
+
+// path tells where a fid stands, by the names of the places through which it came, and whether it is open.
+func path(s *Server, fid int) string {
+	held := s.standing(fid)
+	if held == nil {
+		return "nowhere"
+	}
+	out := ""
+	for p := held.at; p.from != p; p = p.from {
+		out = "/" + p.node.called() + out
+	}
+	if out == "" {
+		out = "/"
+	}
+	if held.open {
+		out += " open"
+	}
+	return out
+}
+
+func wantPath(t *testing.T, s *Server, fid int, wanted string) {
+	t.Helper()
+	if got := path(s, fid); got != wanted {
+		t.Errorf("fid %d stands at %s, want %s", fid, got, wanted)
+	}
+}
+
+// grown is a Server with fid 1 at the root, and the files and directories of these paths (of directories with / behind).
+func grown(t *testing.T, paths ...string) *Server {
+	t.Helper()
+	s := &Server{}
+	want(t, "Attach(1)", s.Attach(1), api.OK)
+	for _, p := range paths {
+		names := strings.Split(strings.TrimSuffix(p, "/"), "/")
+		last := len(names) - 1
+		if _, e := s.Walk(1, 50, names[:last]...); e != api.OK {
+			t.Fatalf("the way to %s: %d", p, e)
+		}
+		want(t, "Create "+p, s.Create(50, names[last], strings.HasSuffix(p, "/")), api.OK)
+		want(t, "Clunk(50)", s.Clunk(50), api.OK)
+	}
+	return s
+}
+
+// at gives the node to which names lead from the root.
+func at(t *testing.T, s *Server, names string) node {
+	t.Helper()
+	p, _, e := come(s.tree.root, nil).walk(strings.Fields(names))
+	if e != api.OK {
+		t.Fatalf("the way to %s: %d", names, e)
+	}
+	return p.node
+}
+
+func dirAt(t *testing.T, s *Server, names string) *directory {
+	t.Helper()
+	d, ok := at(t, s, names).(*directory)
+	if !ok {
+		t.Fatalf("%s is no directory", names)
+	}
+	return d
+}
+
+// lose makes a node gone, and no entry any more.
+func lose(s *Server, n node) {
+	switch x := n.(type) {
+	case *file:
+		x.gone = true
+	case *directory:
+		x.gone = true
+	}
+	if n.liesIn() != nil {
+		delete(n.liesIn().entries, n.called())
+	}
+	s.tree.nodes--
+}
+
+// calls: each call that answers an error, by its name, asked of that fid with arguments that are wrong as far as may be.
+func calls(s *Server, fid int) map[string]func() api.Errno {
+	return map[string]func() api.Errno{
+		"Walk":   func() api.Errno { _, e := s.Walk(fid, 51, make([]string, 17)...); return e },
+		"Open":   func() api.Errno { return s.Open(fid) },
+		"Create": func() api.Errno { return s.Create(fid, "", true) },
+		"Read":   func() api.Errno { _, e := s.Read(fid, -1, -1); return e },
+		"Write":  func() api.Errno { _, e := s.Write(fid, -1, make([]byte, 301)); return e },
+		"List":   func() api.Errno { _, e := s.List(fid); return e },
+		"Stat":   func() api.Errno { _, e := s.Stat(fid); return e },
+		"Remove": func() api.Errno { return s.Remove(fid) },
+		"Clunk":  func() api.Errno { return s.Clunk(fid) },
+		"Bind":   func() api.Errno { return s.Bind(fid, fid, 3) },
+		"Unbind": func() api.Errno { return s.Unbind(fid) },
+		"Used":   func() api.Errno { _, e := s.Used(fid); return e },
+	}
+}
