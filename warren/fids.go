@@ -21,6 +21,32 @@ func (s *Server) standing(fid int) *stand {
 	return &s.fids[fid]
 }
 
+// opened gives the place at which a fid stands that is open.
+func (s *Server) opened(fid int) (*place, api.Errno) {
+	held := s.standing(fid)
+	switch {
+	case held == nil:
+		return nil, api.ErrFid
+	case !held.open:
+		return nil, api.ErrOpen
+	}
+	return held.at, api.OK
+}
+
+// openedFile gives the file at which a fid stands that is open.
+func (s *Server) openedFile(fid int) (*file, api.Errno) {
+	at, e := s.opened(fid)
+	if e != api.OK {
+		return nil, e
+	}
+	return at.file()
+}
+
+// giveUp lets the fid stand nowhere.
+func (h *stand) giveUp() {
+	*h = stand{}
+}
+
 // checkWalk tells what keeps a walk from its first step.
 func (s *Server) checkWalk(fid int, to int, names []string) api.Errno {
 	held := s.standing(fid)

@@ -1,7 +1,10 @@
 package warren
 
 import (
+	"fmt"
+	"maps"
 	"math"
+	"slices"
 	"strings"
 	"testing"
 
@@ -93,18 +96,50 @@ func dirAt(t *testing.T, s *Server, names string) *directory {
 	return d
 }
 
-// lose makes a node gone, and no entry any more.
-func lose(s *Server, n node) {
-	switch x := n.(type) {
-	case *file:
-		x.gone = true
-	case *directory:
-		x.gone = true
+// lose removes the node to which names lead from fid 1, by way of fid 50.
+func lose(t *testing.T, s *Server, names string) {
+	t.Helper()
+	wantWalk(t, s, 1, 50, names, len(strings.Fields(names)), api.OK)
+	want(t, "Remove of "+names, s.Remove(50), api.OK)
+}
+
+func wantRead(t *testing.T, s *Server, fid, at, n int, wanted string, e api.Errno) {
+	t.Helper()
+	if b, got := s.Read(fid, at, n); string(b) != wanted || got != e {
+		t.Errorf("Read(%d, %d, %d): %q, %d, want %q, %d", fid, at, n, b, got, wanted, e)
 	}
-	if n.liesIn() != nil {
-		delete(n.liesIn().entries, n.called())
+}
+
+func wantWrite(t *testing.T, s *Server, fid, at int, data string, e api.Errno) {
+	t.Helper()
+	n := 0
+	if e == api.OK {
+		n = len(data)
 	}
-	s.tree.nodes--
+	if got, err := s.Write(fid, at, []byte(data)); got != n || err != e {
+		t.Errorf("Write(%d, %d, %.20q): %d, %d, want %d, %d", fid, at, data, got, err, n, e)
+	}
+}
+
+func wantList(t *testing.T, s *Server, fid int, names string, e api.Errno) {
+	t.Helper()
+	if l, got := s.List(fid); !slices.Equal(l, strings.Fields(names)) || got != e {
+		t.Errorf("List(%d): %q, %d, want %s, %d", fid, l, got, names, e)
+	}
+}
+
+func wantStat(t *testing.T, s *Server, fid int, wanted api.Stat, e api.Errno) {
+	t.Helper()
+	if x, got := s.Stat(fid); x != wanted || got != e {
+		t.Errorf("Stat(%d): %+v, %d, want %+v, %d", fid, x, got, wanted, e)
+	}
+}
+
+// opened lets a fid stand where names lead from fid 1, and opens it.
+func opened(t *testing.T, s *Server, fid int, names string) {
+	t.Helper()
+	wantWalk(t, s, 1, fid, names, len(strings.Fields(names)), api.OK)
+	want(t, "Open at "+names, s.Open(fid), api.OK)
 }
 
 // calls: each call that answers an error, by its name, asked of that fid with arguments that are wrong as far as may be.
@@ -122,5 +157,35 @@ func calls(s *Server, fid int) map[string]func() api.Errno {
 		"Bind":   func() api.Errno { return s.Bind(fid, fid, 3) },
 		"Unbind": func() api.Errno { return s.Unbind(fid) },
 		"Used":   func() api.Errno { _, e := s.Used(fid); return e },
+	}
+}
+
+// dump tells all that a Server holds but the count of its calls: for each fid in turn what it holds, then the tree.
+func dump(s *Server) []string {
+	var out []string
+	for fid := range s.fids {
+		line := fmt.Sprintf("%s %p", path(s, fid), s.fids[fid].at)
+		if at := s.fids[fid].at; at != nil {
+			line += fmt.Sprintf(" %p gone %v row %v", at.node, at.node.isGone(), at.row)
+		}
+		out = append(out, line)
+	}
+	tree := &strings.Builder{}
+	fmt.Fprintf(tree, "%d nodes", s.tree.nodes)
+	dumpNode(tree, s.tree.root)
+	return append(out, tree.String())
+}
+
+func dumpNode(out *strings.Builder, n node) {
+	fmt.Fprintf(out, "\n%p %s gone %v in %p", n, n.called(), n.isGone(), n.liesIn())
+	switch x := n.(type) {
+	case *file:
+		fmt.Fprintf(out, " %q version %d", x.bytes, x.version)
+	case *directory:
+		fmt.Fprintf(out, " bound %v", x.bound)
+		for _, name := range slices.Sorted(maps.Keys(x.entries)) {
+			fmt.Fprintf(out, "\n%q:", name)
+			dumpNode(out, x.entries[name])
+		}
 	}
 }

@@ -1,7 +1,11 @@
 package warren
 
 import (
+	"math"
+	"math/rand"
+	"slices"
 	"strconv"
+	"strings"
 	"sync"
 	"testing"
 
@@ -110,8 +114,8 @@ func TestP1OrderOfCreate(t *testing.T) {
 	wantWalk(t, s, 1, 3, "f", 1, api.OK)
 	wantWalk(t, s, 1, 4, "g", 1, api.OK)
 	want(t, "Open(2)", s.Open(2), api.OK)
-	lose(s, at(t, s, "f"))
-	dirAt(t, s, "d").row = row{{dir: dirAt(t, s, "d")}, {dir: s.tree.root}}
+	lose(t, s, "f")
+	dirAt(t, s, "d").bound = row{{dir: dirAt(t, s, "d")}, {dir: s.tree.root}}
 	wantWalk(t, s, 1, 5, "d", 1, api.OK)
 	for i := s.tree.nodes; i < api.MaxNodes; i++ {
 		s.Attach(50)
@@ -149,12 +153,91 @@ func TestP1ErrorsChangeNothing(t *testing.T) {
 	s.Create(2, "a/b", true)
 	s.Create(3, "b", true)
 	s.Clunk(4)
+	s.Write(2, 0, []byte("x"))
+	s.Write(3, 300, []byte("x"))
+	s.Write(3, -1, nil)
+	s.Read(3, -1, 0)
+	s.List(3)
+	s.Stat(4)
+	s.Remove(4)
 	wantPath(t, s, 1, "/")
 	wantPath(t, s, 2, "/a")
 	wantPath(t, s, 3, "/f open")
 	wantPath(t, s, 4, "nowhere")
 	if len(s.tree.root.entries) != 2 || len(dirAt(t, s, "a").entries) != 1 || s.tree.nodes != before {
 		t.Errorf("entries were made by calls that answered errors: %d nodes", s.tree.nodes)
+	}
+}
+
+// answer is what a call answered.
+type answer struct {
+	e     api.Errno
+	empty bool // all other results are 0 or empty
+	call  string
+}
+
+// ask makes a call that r chooses, of a few fids and names, so that many go well and many don't.
+func ask(s *Server, r *rand.Rand) (answer, int) {
+	pick := func(from ...int) int { return from[r.Intn(len(from))] }
+	name := func() string { return []string{"a", "b", "c", "..", ".", "a/b"}[r.Intn(6)] }
+	fid := r.Intn(8)
+	at, n := pick(-1, 0, 1, 5, 290, 300, 301, math.MaxInt), pick(-1, 0, 1, 10, 300, math.MaxInt)
+	switch r.Intn(10) {
+	case 0:
+		return answer{s.Attach(fid), true, "Attach"}, fid
+	case 1:
+		_, e := s.Walk(fid, r.Intn(8), name(), name())
+		return answer{e, true, "Walk"}, fid
+	case 2:
+		return answer{s.Open(fid), true, "Open"}, fid
+	case 3, 4:
+		return answer{s.Create(fid, name(), r.Intn(3) > 0), true, "Create"}, fid
+	case 5:
+		b, e := s.Read(fid, at, n)
+		return answer{e, len(b) == 0, "Read"}, fid
+	case 6:
+		n, e := s.Write(fid, at, make([]byte, pick(0, 1, 10, 301)))
+		return answer{e, n == 0, "Write"}, fid
+	case 7:
+		l, e := s.List(fid)
+		return answer{e, len(l) == 0, "List"}, fid
+	case 8:
+		x, e := s.Stat(fid)
+		return answer{e, x == (api.Stat{}), "Stat"}, fid
+	}
+	if r.Intn(3) > 0 {
+		return answer{s.Clunk(fid), true, "Clunk"}, fid
+	}
+	return answer{s.Remove(fid), true, "Remove"}, fid
+}
+
+// Many calls in a row: beside an error all else is 0 or empty, and the Server is as it was, but for Remove's fid.
+func TestP1ErrorsOfManyCalls(t *testing.T) {
+	nowhere := dump(grown(t))[0]
+	seen := map[string]int{}
+	for seed := range int64(30) {
+		s, r := &Server{}, rand.New(rand.NewSource(seed))
+		s.Attach(0)
+		for range 400 {
+			wanted := dump(s)
+			got, fid := ask(s, r)
+			seen[got.call+strconv.Itoa(int(got.e))]++
+			if got.e == api.OK {
+				continue
+			}
+			if got.call == "Remove" {
+				wanted[fid] = nowhere
+			}
+			if !got.empty {
+				t.Fatalf("%s: error %d beside another result", got.call, got.e)
+			}
+			if !slices.Equal(dump(s), wanted) {
+				t.Fatalf("%s: error %d: the Server is not as it was", got.call, got.e)
+			}
+		}
+	}
+	if len(seen) < 40 {
+		t.Errorf("too few of the answers came up: %v", seen)
 	}
 }
 
@@ -208,5 +291,44 @@ func TestP1Goroutines(t *testing.T) {
 		if s.tree.nodes != 51 {
 			t.Fatalf("nodes: %d", s.tree.nodes)
 		}
+	}
+}
+
+// Files that are written, read, listed and removed by many at a time.
+func TestP1GoroutinesOfFiles(t *testing.T) {
+	for range 20 {
+		s := grown(t, "f", "d/")
+		for fid := 2; fid < 42; fid++ {
+			opened(t, s, fid, "f")
+		}
+		opened(t, s, 0, "")
+		write := func(i int) api.Errno {
+			_, e := s.Write(i+2, 3*(i%10), []byte("abc"))
+			return e
+		}
+		if got := together(40, write); got[api.OK] != 40 {
+			t.Fatalf("Write: %v", got)
+		}
+		wantStat(t, s, 2, api.Stat{Name: "f", Size: 30, Version: 40}, api.OK)
+		wantRead(t, s, 3, 0, 99, strings.Repeat("abc", 10), api.OK)
+		mixed := func(i int) api.Errno {
+			s.List(0)
+			s.Stat(i + 2)
+			if b, e := s.Read(i+2, 0, 3); e == api.OK && string(b) != "abc" && string(b) != "xyz" {
+				return api.ErrArg
+			}
+			if i%2 == 0 {
+				_, e := s.Write(i+2, 0, []byte("xyz"))
+				return e
+			}
+			return api.OK
+		}
+		if got := together(40, mixed); got[api.OK] != 40 {
+			t.Fatalf("Read, Write, List and Stat: %v", got)
+		}
+		if got := together(40, func(i int) api.Errno { return s.Remove(i + 2) }); got[api.OK] != 1 || got[api.ErrGone] != 39 {
+			t.Fatalf("Remove: %v", got)
+		}
+		wantList(t, s, 0, "d", api.OK)
 	}
 }

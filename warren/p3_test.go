@@ -55,7 +55,7 @@ func TestP3Clunk(t *testing.T) {
 func TestP3ClunkOfOneThatIsGone(t *testing.T) {
 	s := grown(t, "a/")
 	wantWalk(t, s, 1, 2, "a", 1, api.OK)
-	lose(s, at(t, s, "a"))
+	lose(t, s, "a")
 	want(t, "Clunk(2)", s.Clunk(2), api.OK)
 	wantPath(t, s, 2, "nowhere")
 }

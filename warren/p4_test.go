@@ -118,9 +118,9 @@ func TestP4Gone(t *testing.T) {
 	s := grown(t, "a/", "a/b/", "a/b/c/", "f")
 	wantWalk(t, s, 1, 2, "a b c", 3, api.OK)
 	wantWalk(t, s, 1, 3, "f", 1, api.OK)
-	lose(s, at(t, s, "a b c"))
-	lose(s, at(t, s, "a b"))
-	lose(s, at(t, s, "f"))
+	lose(t, s, "a b c")
+	lose(t, s, "a b")
+	lose(t, s, "f")
 	wantWalk(t, s, 2, 4, "x", 0, api.ErrGone)
 	wantWalk(t, s, 3, 4, "x", 0, api.ErrGone)
 	wantWalk(t, s, 2, 4, ". .. c", 2, api.ErrGone)
@@ -138,7 +138,7 @@ func TestP4Gone(t *testing.T) {
 func TestP4Rows(t *testing.T) {
 	s := grown(t, "a/", "a/f", "b/", "b/f", "b/g/", "c/")
 	a, b, c := dirAt(t, s, "a"), dirAt(t, s, "b"), dirAt(t, s, "c")
-	a.row = row{{dir: c}, {dir: b}, {dir: a, leave: true}}
+	a.bound = row{{dir: c}, {dir: b}, {dir: a, leave: true}}
 	wantWalk(t, s, 1, 2, "a f", 2, api.OK)
 	if s.fids[2].at.node != b.entries["f"] {
 		t.Errorf("f is not that of the first member that has it")
@@ -162,8 +162,8 @@ func TestP4RowsStayAsTheyWere(t *testing.T) {
 	wantWalk(t, s, 1, 3, "a d", 2, api.OK)
 	want(t, "Attach(9)", s.Attach(9), api.OK)
 	want(t, "Create", s.Create(9, "new", true), api.OK)
-	a.row = row{{dir: b}}
-	s.tree.root.row = row{{dir: s.tree.root, leave: true}, {dir: b}}
+	a.bound = row{{dir: b}}
+	s.tree.root.bound = row{{dir: s.tree.root, leave: true}, {dir: b}}
 	for _, way := range []string{"", ".", ". ."} {
 		wantWalk(t, s, 2, 2, way, len(strings.Fields(way)), api.OK)
 		wantWalk(t, s, 2, 4, "g", 0, api.ErrNone)

@@ -27,8 +27,8 @@ func TestP5OpenOfOneThatIsGone(t *testing.T) {
 	wantWalk(t, s, 1, 3, "f", 1, api.OK)
 	wantWalk(t, s, 1, 4, "a", 1, api.OK)
 	want(t, "Open(2)", s.Open(2), api.OK)
-	lose(s, at(t, s, "f"))
-	lose(s, at(t, s, "a"))
+	lose(t, s, "f")
+	lose(t, s, "a")
 	want(t, "Open of one that is open and gone", s.Open(2), api.ErrOpen)
 	want(t, "Open of a gone file", s.Open(3), api.ErrGone)
 	want(t, "Open of a gone directory", s.Open(4), api.ErrGone)
@@ -78,9 +78,9 @@ func TestP5CreateWhereAllIsGone(t *testing.T) {
 	s := grown(t, "a/", "b/", "f")
 	wantWalk(t, s, 1, 2, "a", 1, api.OK)
 	wantWalk(t, s, 1, 3, "f", 1, api.OK)
-	lose(s, at(t, s, "f"))
+	lose(t, s, "f")
 	a := dirAt(t, s, "a")
-	lose(s, a)
+	lose(t, s, "a")
 	want(t, "Create in a gone directory", s.Create(2, "x", true), api.ErrGone)
 	want(t, "Create in a gone file", s.Create(3, "x", true), api.ErrGone)
 	want(t, "Create of what is gone", s.Create(1, "a", false), api.OK)
@@ -93,7 +93,7 @@ func TestP5CreateWhereAllIsGone(t *testing.T) {
 func TestP5CreateInRows(t *testing.T) {
 	s := grown(t, "a/", "b/", "b/g", "c/", "d/")
 	a, b, c, d := dirAt(t, s, "a"), dirAt(t, s, "b"), dirAt(t, s, "c"), dirAt(t, s, "d")
-	a.row = row{{dir: b}, {dir: c, leave: true}, {dir: a, leave: true}}
+	a.bound = row{{dir: b}, {dir: c, leave: true}, {dir: a, leave: true}}
 	wantWalk(t, s, 1, 2, "a", 1, api.OK)
 	wantWalk(t, s, 1, 3, "a", 1, api.OK)
 	wantWalk(t, s, 1, 4, "a", 1, api.OK)
@@ -109,12 +109,12 @@ func TestP5CreateInRows(t *testing.T) {
 	if a.entries["x"] != s.fids[3].at.node {
 		t.Errorf("x is not made in the first member that is not gone")
 	}
-	d.row = row{{dir: d}, {dir: b}, {dir: c, leave: true}}
+	d.bound = row{{dir: d}, {dir: b}, {dir: c, leave: true}}
 	wantWalk(t, s, 1, 5, "d", 1, api.OK)
 	want(t, "no member may", s.Create(5, "y", false), api.ErrDenied)
 	want(t, "a name that is there where no member may", s.Create(5, "g", false), api.ErrExists)
 	wantPath(t, s, 5, "/d")
-	a.row = row{}
+	a.bound = row{}
 	want(t, "the row as it was when it was come to", s.Create(4, "z", false), api.OK)
 }
 
@@ -129,7 +129,7 @@ func TestP5HundredNodes(t *testing.T) {
 	want(t, "one that is there already", s.Create(1, "n0", false), api.ErrExists)
 	wantPath(t, s, 1, "/")
 	wantWalk(t, s, 1, 2, "more", 0, api.ErrNone)
-	lose(s, at(t, s, "n98"))
+	lose(t, s, "n98")
 	want(t, "those that are gone don't count", s.Create(1, "more", false), api.OK)
 	want(t, "Attach(3)", s.Attach(3), api.OK)
 	want(t, "full again", s.Create(3, "again", true), api.ErrMany)

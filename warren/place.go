@@ -1,6 +1,10 @@
 package warren
 
-import "warren/api"
+import (
+	"strings"
+
+	"warren/api"
+)
 
 // place is where a fid may stand. Fids and places further on share it, so it is never changed once it is made.
 type place struct {
@@ -13,7 +17,7 @@ type place struct {
 func come(n node, from *place) *place {
 	p := &place{node: n, from: from}
 	if d, ok := n.(*directory); ok {
-		p.row = d.row
+		p.row = d.row()
 	}
 	if from == nil {
 		p.from = p
@@ -30,6 +34,30 @@ func (p *place) checkDirectory() api.Errno {
 		return api.ErrDir
 	}
 	return api.OK
+}
+
+// file gives the place's node as a file, or tells what keeps it from being used as one.
+func (p *place) file() (*file, api.Errno) {
+	if p.node.isGone() {
+		return nil, api.ErrGone
+	}
+	f, ok := p.node.(*file)
+	if !ok {
+		return nil, api.ErrDir
+	}
+	return f, api.OK
+}
+
+// stat tells what the place's node is, and how much is seen there.
+func (p *place) stat() api.Stat {
+	out := api.Stat{Name: strings.Clone(p.node.called())}
+	switch n := p.node.(type) {
+	case *file:
+		out.Size, out.Version = len(n.bytes), n.version
+	case *directory:
+		out.Dir, out.Row = true, p.row.count()
+	}
+	return out
 }
 
 // step goes on by one name.

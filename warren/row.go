@@ -1,5 +1,11 @@
 package warren
 
+import (
+	"maps"
+	"slices"
+	"strings"
+)
+
 // row is what is seen where a directory stands. Places share it, so its members are never written over: another row takes its stead.
 type row []member
 
@@ -30,4 +36,36 @@ func (r row) maker() *directory {
 		}
 	}
 	return nil
+}
+
+// has tells whether a directory is a member.
+func (r row) has(dir *directory) bool {
+	return slices.ContainsFunc(r, func(m member) bool { return m.dir == dir })
+}
+
+// count tells how many members are not gone.
+func (r row) count() int {
+	n := 0
+	for _, m := range r {
+		if !m.dir.isGone() {
+			n++
+		}
+	}
+	return n
+}
+
+// list tells the names of the entries, member by member, each where it comes first.
+func (r row) list() []string {
+	var out []string
+	for i, m := range r {
+		if m.dir.isGone() {
+			continue
+		}
+		for _, name := range slices.Sorted(maps.Keys(m.dir.entries)) {
+			if r[:i].find(name) == nil {
+				out = append(out, strings.Clone(name))
+			}
+		}
+	}
+	return out
 }

@@ -56,3 +56,30 @@ func (t *tree) add(n node) {
 	n.liesIn().entries[n.called()] = n
 	t.nodes++
 }
+
+// remove takes a node away, if nothing keeps it.
+func (t *tree) remove(n node) api.Errno {
+	if n.isGone() {
+		return api.ErrGone
+	}
+	if n.liesIn() == nil {
+		return api.ErrDenied
+	}
+	if d, ok := n.(*directory); ok && t.isBusy(d) {
+		return api.ErrBusy
+	}
+	t.drop(n)
+	return api.OK
+}
+
+// isBusy tells whether a directory is in use. What is gone has nothing bound onto it, so the rows of the tree are all there are.
+func (t *tree) isBusy(d *directory) bool {
+	return len(d.entries) > 0 || d.bound != nil || t.root.carries(d)
+}
+
+// drop lets a node be gone, and no entry any more.
+func (t *tree) drop(n node) {
+	delete(n.liesIn().entries, n.called())
+	n.goAway()
+	t.nodes--
+}

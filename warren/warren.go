@@ -96,27 +96,88 @@ func (s *Server) Create(fid int, name string, dir bool) api.Errno {
 
 // Read tells a file's bytes (P6).
 func (s *Server) Read(fid int, at int, n int) ([]byte, api.Errno) {
-	return nil, s.unbuilt(fid)
+	if s == nil {
+		return nil, api.ErrClosed
+	}
+	s.enter()
+	defer s.leave()
+	f, e := s.openedFile(fid)
+	if e != api.OK {
+		return nil, e
+	}
+	if at < 0 || n < 0 {
+		return nil, api.ErrArg
+	}
+	return f.read(at, n), api.OK
 }
 
 // Write writes a file's bytes (P6).
 func (s *Server) Write(fid int, at int, data []byte) (int, api.Errno) {
-	return 0, s.unbuilt(fid)
+	if s == nil {
+		return 0, api.ErrClosed
+	}
+	s.enter()
+	defer s.leave()
+	f, e := s.openedFile(fid)
+	if e != api.OK {
+		return 0, e
+	}
+	if at < 0 {
+		return 0, api.ErrArg
+	}
+	if e := f.write(at, data); e != api.OK {
+		return 0, e
+	}
+	return len(data), api.OK
 }
 
 // List tells a directory's entries (P7).
 func (s *Server) List(fid int) ([]string, api.Errno) {
-	return nil, s.unbuilt(fid)
+	if s == nil {
+		return nil, api.ErrClosed
+	}
+	s.enter()
+	defer s.leave()
+	at, e := s.opened(fid)
+	if e != api.OK {
+		return nil, e
+	}
+	if e := at.checkDirectory(); e != api.OK {
+		return nil, e
+	}
+	return at.row.list(), api.OK
 }
 
 // Stat tells what a node is (P7).
 func (s *Server) Stat(fid int) (api.Stat, api.Errno) {
-	return api.Stat{}, s.unbuilt(fid)
+	if s == nil {
+		return api.Stat{}, api.ErrClosed
+	}
+	s.enter()
+	defer s.leave()
+	held := s.standing(fid)
+	switch {
+	case held == nil:
+		return api.Stat{}, api.ErrFid
+	case held.at.node.isGone():
+		return api.Stat{}, api.ErrGone
+	}
+	return held.at.stat(), api.OK
 }
 
-// Remove takes a node away (P8).
+// Remove takes a node away, and gives its fid up (P8).
 func (s *Server) Remove(fid int) api.Errno {
-	return s.unbuilt(fid)
+	if s == nil {
+		return api.ErrClosed
+	}
+	s.enter()
+	defer s.leave()
+	held := s.standing(fid)
+	if held == nil {
+		return api.ErrFid
+	}
+	defer held.giveUp()
+	return s.tree.remove(held.at.node)
 }
 
 // Clunk gives a fid up (P3).
@@ -130,7 +191,7 @@ func (s *Server) Clunk(fid int) api.Errno {
 	if held == nil {
 		return api.ErrFid
 	}
-	*held = stand{}
+	held.giveUp()
 	return api.OK
 }
 
