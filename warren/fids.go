@@ -1,6 +1,10 @@
 package warren
 
-import "warren/api"
+import (
+	"slices"
+
+	"warren/api"
+)
 
 // stand is what a fid holds.
 type stand struct {
@@ -40,6 +44,30 @@ func (s *Server) openedFile(fid int) (*file, api.Errno) {
 		return nil, e
 	}
 	return at.file()
+}
+
+// directories gives the directories at which fids stand. An error of any of them comes ahead of all later errors, so each is looked for at all of them before the next.
+func (s *Server) directories(fids ...int) ([]*directory, api.Errno) {
+	nodes := make([]node, len(fids))
+	for i, fid := range fids {
+		held := s.standing(fid)
+		if held == nil {
+			return nil, api.ErrFid
+		}
+		nodes[i] = held.at.node
+	}
+	if slices.ContainsFunc(nodes, node.isGone) {
+		return nil, api.ErrGone
+	}
+	dirs := make([]*directory, len(nodes))
+	for i, n := range nodes {
+		d, ok := n.(*directory)
+		if !ok {
+			return nil, api.ErrDir
+		}
+		dirs[i] = d
+	}
+	return dirs, api.OK
 }
 
 // giveUp lets the fid stand nowhere.

@@ -12,6 +12,11 @@ func newFile(name string, in *directory) *file {
 	return &file{common: common{name: name, in: in}}
 }
 
+// used tells how many bytes lie in the file.
+func (f *file) used() int {
+	return len(f.bytes)
+}
+
 // read copies n bytes from at on, or as many as there are. Neither number is below 0.
 func (f *file) read(at int, n int) []byte {
 	rest := f.bytes[min(at, len(f.bytes)):]

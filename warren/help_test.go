@@ -142,6 +142,50 @@ func opened(t *testing.T, s *Server, fid int, names string) {
 	want(t, "Open at "+names, s.Open(fid), api.OK)
 }
 
+// bind lays one directory onto another, by the names that lead to them from fid 1, by way of fids 48 and 49.
+func bind(t *testing.T, s *Server, from, onto string, how int, wanted api.Errno) {
+	t.Helper()
+	wantWalk(t, s, 1, 48, from, len(strings.Fields(from)), api.OK)
+	wantWalk(t, s, 1, 49, onto, len(strings.Fields(onto)), api.OK)
+	want(t, fmt.Sprintf("Bind of %q onto %q, how %d", from, onto, how), s.Bind(48, 49, how), wanted)
+	want(t, "Clunk(48)", s.Clunk(48), api.OK)
+	want(t, "Clunk(49)", s.Clunk(49), api.OK)
+}
+
+func unbind(t *testing.T, s *Server, onto string, wanted api.Errno) {
+	t.Helper()
+	wantWalk(t, s, 1, 49, onto, len(strings.Fields(onto)), api.OK)
+	want(t, "Unbind of "+onto, s.Unbind(49), wanted)
+	want(t, "Clunk(49)", s.Clunk(49), api.OK)
+}
+
+// fill writes a text into the file to which names lead from fid 1, by way of fid 50.
+func fill(t *testing.T, s *Server, names, text string) {
+	t.Helper()
+	opened(t, s, 50, names)
+	wantWrite(t, s, 50, 0, text, api.OK)
+	want(t, "Clunk(50)", s.Clunk(50), api.OK)
+}
+
+// wantSeen wants what a fid, which is not open, sees of the directory at which it stands: how many members, and what their entries are.
+func wantSeen(t *testing.T, s *Server, fid, members int, names string) {
+	t.Helper()
+	if x, e := s.Stat(fid); x.Row != members || e != api.OK {
+		t.Errorf("Stat(%d): row %d, error %d, want %d members", fid, x.Row, e, members)
+	}
+	wantWalk(t, s, fid, 50, "", 0, api.OK)
+	want(t, "Open(50)", s.Open(50), api.OK)
+	wantList(t, s, 50, names, api.OK)
+	want(t, "Clunk(50)", s.Clunk(50), api.OK)
+}
+
+func wantUsed(t *testing.T, s *Server, fid, wanted int, e api.Errno) {
+	t.Helper()
+	if n, got := s.Used(fid); n != wanted || got != e {
+		t.Errorf("Used(%d): %d, %d, want %d, %d", fid, n, got, wanted, e)
+	}
+}
+
 // calls: each call that answers an error, by its name, asked of that fid with arguments that are wrong as far as may be.
 func calls(s *Server, fid int) map[string]func() api.Errno {
 	return map[string]func() api.Errno{

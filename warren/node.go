@@ -6,6 +6,7 @@ type node interface {
 	liesIn() *directory
 	isGone() bool
 	goAway()
+	used() int
 }
 
 // common is what files and directories have in common.

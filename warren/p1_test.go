@@ -32,6 +32,12 @@ func TestP1NilServer(t *testing.T) {
 	if x, e := none.Stat(1); x != (api.Stat{}) || e != api.ErrClosed {
 		t.Errorf("Stat of a nil Server: %v, %d", x, e)
 	}
+	if n, e := none.Used(1); n != 0 || e != api.ErrClosed {
+		t.Errorf("Used of a nil Server: %d, %d", n, e)
+	}
+	if n, e := none.Write(1, 0, []byte("x")); n != 0 || e != api.ErrClosed {
+		t.Errorf("Write of a nil Server: %d, %d", n, e)
+	}
 	if n := none.Calls(); n != 0 {
 		t.Errorf("Calls of a nil Server: %d", n)
 	}
@@ -54,8 +60,10 @@ func TestP1AllNumbers(t *testing.T) {
 				s.Read(a, b, b)
 				s.Write(a, b, []byte("data"))
 				s.Write(a, b, nil)
-				s.Bind(a, b, a)
-				s.Bind(b, a, b)
+				for _, how := range append(numbers, 2, 3, 4, 5, 6, 7, 8) {
+					s.Bind(a, b, how)
+				}
+				s.Used(b)
 			}
 			s.Attach(a)
 			for _, name := range append(wrongNames, rightNames...) {
@@ -115,7 +123,8 @@ func TestP1OrderOfCreate(t *testing.T) {
 	wantWalk(t, s, 1, 4, "g", 1, api.OK)
 	want(t, "Open(2)", s.Open(2), api.OK)
 	lose(t, s, "f")
-	dirAt(t, s, "d").bound = row{{dir: dirAt(t, s, "d")}, {dir: s.tree.root}}
+	bind(t, s, "d", "d", api.Replace, api.OK)
+	bind(t, s, "", "d", api.After, api.OK)
 	wantWalk(t, s, 1, 5, "d", 1, api.OK)
 	for i := s.tree.nodes; i < api.MaxNodes; i++ {
 		s.Attach(50)
@@ -130,6 +139,59 @@ func TestP1OrderOfCreate(t *testing.T) {
 	want(t, "there already, no leave, full", s.Create(5, "a", true), api.ErrExists)
 	want(t, "no leave, full", s.Create(5, "x", true), api.ErrDenied)
 	want(t, "full", s.Create(1, "x", true), api.ErrMany)
+}
+
+// Bind: case by case fewer faults apply, of one fid or of both; each answer is the first of those that P9 names.
+func TestP1OrderOfBind(t *testing.T) {
+	s := grown(t, "a/", "b/", "f", "g", "h", "d/", "full/")
+	for fid, name := range map[int]string{2: "a", 3: "b", 4: "f", 5: "g", 6: "d", 7: "h", 8: "full"} {
+		wantWalk(t, s, 1, fid, name, 1, api.OK)
+	}
+	lose(t, s, "g")
+	lose(t, s, "d")
+	for range api.MaxRow - 1 {
+		bind(t, s, "a", "full", api.After, api.OK)
+	}
+	for _, c := range []struct {
+		from, onto, how int
+		want            api.Errno
+	}{
+		{9, 5, 3, api.ErrFid},
+		{5, 9, 3, api.ErrFid},
+		{4, 51, 3, api.ErrFid},
+		{-1, 4, 3, api.ErrFid},
+		{9, 9, 3, api.ErrFid},
+		{5, 6, 3, api.ErrGone},
+		{4, 5, 3, api.ErrGone},
+		{5, 4, 3, api.ErrGone},
+		{4, 6, 3, api.ErrGone},
+		{6, 4, 3, api.ErrGone},
+		{6, 8, 3, api.ErrGone},
+		{2, 6, 1, api.ErrGone},
+		{6, 6, 1, api.ErrGone},
+		{4, 7, 3, api.ErrDir},
+		{4, 4, 3, api.ErrDir},
+		{4, 8, 3, api.ErrDir},
+		{2, 4, 3, api.ErrDir},
+		{4, 2, 0, api.ErrDir},
+		{2, 8, 3, api.ErrArg},
+		{2, 8, 7, api.ErrArg},
+		{2, 8, -1, api.ErrArg},
+		{2, 8, 1, api.ErrMany},
+		{2, 8, 6, api.ErrMany},
+		{2, 8, 0, api.OK},
+	} {
+		before := dump(s)
+		if e := s.Bind(c.from, c.onto, c.how); e != c.want {
+			t.Errorf("Bind(%d, %d, %d): %d, want %d", c.from, c.onto, c.how, e, c.want)
+		}
+		if c.want != api.OK && !slices.Equal(dump(s), before) {
+			t.Errorf("Bind(%d, %d, %d): the Server is not as it was", c.from, c.onto, c.how)
+		}
+	}
+	for fid, wanted := range map[int]api.Errno{9: api.ErrFid, 5: api.ErrGone, 6: api.ErrGone, 4: api.ErrDir, 2: api.ErrNone, 8: api.OK} {
+		want(t, "Unbind of fid "+strconv.Itoa(fid), s.Unbind(fid), wanted)
+	}
 }
 
 // With an error nothing is changed.
@@ -160,6 +222,13 @@ func TestP1ErrorsChangeNothing(t *testing.T) {
 	s.List(3)
 	s.Stat(4)
 	s.Remove(4)
+	s.Bind(2, 3, 0)
+	s.Bind(3, 2, 0)
+	s.Bind(1, 2, 3)
+	s.Bind(1, 4, 0)
+	s.Unbind(2)
+	s.Used(4)
+	wantSeen(t, s, 2, 1, "b")
 	wantPath(t, s, 1, "/")
 	wantPath(t, s, 2, "/a")
 	wantPath(t, s, 3, "/f open")
@@ -182,7 +251,14 @@ func ask(s *Server, r *rand.Rand) (answer, int) {
 	name := func() string { return []string{"a", "b", "c", "..", ".", "a/b"}[r.Intn(6)] }
 	fid := r.Intn(8)
 	at, n := pick(-1, 0, 1, 5, 290, 300, 301, math.MaxInt), pick(-1, 0, 1, 10, 300, math.MaxInt)
-	switch r.Intn(10) {
+	switch r.Intn(14) {
+	case 10, 11:
+		return answer{s.Bind(fid, r.Intn(8), r.Intn(9)-1), true, "Bind"}, fid
+	case 12:
+		return answer{s.Unbind(fid), true, "Unbind"}, fid
+	case 13:
+		n, e := s.Used(fid)
+		return answer{e, n == 0, "Used"}, fid
 	case 0:
 		return answer{s.Attach(fid), true, "Attach"}, fid
 	case 1:
@@ -330,5 +406,71 @@ func TestP1GoroutinesOfFiles(t *testing.T) {
 			t.Fatalf("Remove: %v", got)
 		}
 		wantList(t, s, 0, "d", api.OK)
+	}
+}
+
+// Rows that are laid, seen and taken away by many at a time.
+func TestP1GoroutinesOfRows(t *testing.T) {
+	for range 20 {
+		s := grown(t, "a/", "a/f", "b/", "b/g", "b/h/", "b/h/i")
+		fill(t, s, "a f", "1234")
+		fill(t, s, "b g", "12345")
+		fill(t, s, "b h i", "1234567890")
+		for fid := 2; fid < 42; fid++ {
+			wantWalk(t, s, 1, fid, []string{"a", "b"}[fid%2], 1, api.OK)
+		}
+		if got := together(20, func(i int) api.Errno { return s.Bind(3, 2*i+2, i%2+1) }); got[api.OK] != 5 || got[api.ErrMany] != 15 {
+			t.Fatalf("Bind: %v", got)
+		}
+		used := func(i int) api.Errno {
+			if i%4 == 0 {
+				return s.Bind(3, 2, api.Replace)
+			}
+			if i%4 == 1 {
+				s.Walk(1, 42+i%3, "a")
+				s.Clunk(42 + i%3)
+			}
+			n, e := s.Used(i + 2)
+			if n != []int{4, 15}[i%2] {
+				return api.ErrArg
+			}
+			return e
+		}
+		if got := together(40, used); got[api.OK] != 40 {
+			t.Fatalf("Used and Bind: %v", got)
+		}
+		if got := together(40, func(i int) api.Errno { return s.Unbind(2*(i%20) + 2) }); got[api.OK] != 1 || got[api.ErrNone] != 39 {
+			t.Fatalf("Unbind: %v", got)
+		}
+	}
+}
+
+// Used while others write, make and remove: what it tells is what lay there at one time.
+func TestP1GoroutinesOfUsed(t *testing.T) {
+	for range 20 {
+		s := grown(t, "d/", "d/e/", "d/e/f")
+		for fid := 2; fid < 22; fid++ {
+			opened(t, s, fid, "d e f")
+		}
+		mixed := func(i int) api.Errno {
+			if i < 20 {
+				_, e := s.Write(i+2, 10*i, make([]byte, 10))
+				return e
+			}
+			s.Walk(1, i+2, "d")
+			if i < 30 {
+				s.Create(i+2, "n"+strconv.Itoa(i), false)
+				s.Write(i+2, 0, make([]byte, 10))
+				return s.Remove(i + 2)
+			}
+			if n, e := s.Used(i + 2); n%10 != 0 || e != api.OK {
+				return api.ErrArg
+			}
+			return api.OK
+		}
+		if got := together(40, mixed); got[api.OK] != 40 {
+			t.Fatalf("Used, Write, Create and Remove: %v", got)
+		}
+		wantUsed(t, s, 1, 200, api.OK)
 	}
 }

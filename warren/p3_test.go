@@ -74,26 +74,3 @@ func TestP3ErrFidComesFirst(t *testing.T) {
 		want(t, "Bind onto nowhere", s.Bind(1, fid, 9), api.ErrFid)
 	}
 }
-
-// P10's count, as far as it goes with the first stage: each call but Calls, with an error or without.
-func TestCallsAreCounted(t *testing.T) {
-	s := &Server{}
-	if n := s.Calls(); n != 0 {
-		t.Errorf("Calls at first: %d", n)
-	}
-	s.Attach(1)
-	s.Attach(1)
-	s.Attach(51)
-	if n := s.Calls(); n != 3 || s.Calls() != 3 {
-		t.Errorf("Calls: %d, then %d, want 3", n, s.Calls())
-	}
-	for _, fid := range []int{1, 9, -1} {
-		for name, call := range calls(s, fid) {
-			before := s.Calls()
-			call()
-			if n := s.Calls(); n != before+1 {
-				t.Errorf("%s of fid %d: counted %d times", name, fid, n-before)
-			}
-		}
-	}
-}

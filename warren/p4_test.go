@@ -137,33 +137,39 @@ func TestP4Gone(t *testing.T) {
 // In a row the first member that has the name gives it; members that are gone are passed over.
 func TestP4Rows(t *testing.T) {
 	s := grown(t, "a/", "a/f", "b/", "b/f", "b/g/", "c/")
-	a, b, c := dirAt(t, s, "a"), dirAt(t, s, "b"), dirAt(t, s, "c")
-	a.bound = row{{dir: c}, {dir: b}, {dir: a, leave: true}}
-	wantWalk(t, s, 1, 2, "a f", 2, api.OK)
-	if s.fids[2].at.node != b.entries["f"] {
-		t.Errorf("f is not that of the first member that has it")
-	}
+	fill(t, s, "a f", "a's")
+	fill(t, s, "b f", "b's")
+	bind(t, s, "b", "a", api.Before, api.OK)
+	bind(t, s, "c", "a", api.Before, api.OK)
+	opened(t, s, 2, "a f")
+	wantRead(t, s, 2, 0, 9, "b's", api.OK)
 	wantWalk(t, s, 1, 3, "a g", 2, api.OK)
 	wantPath(t, s, 3, "/a/g")
 	wantWalk(t, s, 1, 4, "a x", 1, api.ErrNone)
-	b.gone = true
-	wantWalk(t, s, 1, 4, "a f", 2, api.OK)
-	if s.fids[4].at.node != a.entries["f"] {
-		t.Errorf("a member that is gone was not passed over")
+	wantWalk(t, s, 1, 5, "a", 1, api.OK)
+	unbind(t, s, "a", api.OK)
+	for _, names := range []string{"b f", "b g", "b"} {
+		lose(t, s, names)
 	}
-	wantWalk(t, s, 1, 5, "a g", 1, api.ErrNone)
+	wantWalk(t, s, 5, 6, "f", 1, api.OK)
+	want(t, "Open(6)", s.Open(6), api.OK)
+	wantRead(t, s, 6, 0, 9, "a's", api.OK)
+	wantWalk(t, s, 5, 7, "g", 0, api.ErrNone)
+	lose(t, s, "c")
+	lose(t, s, "a f")
+	wantWalk(t, s, 5, 7, "f", 0, api.ErrNone)
 }
 
 // A place has the row as it was when it was come to by Attach, a name or Create; ., .. and a walk without names keep it.
 func TestP4RowsStayAsTheyWere(t *testing.T) {
 	s := grown(t, "a/", "a/d/", "b/", "b/g")
-	a, b := dirAt(t, s, "a"), dirAt(t, s, "b")
 	wantWalk(t, s, 1, 2, "a", 1, api.OK)
 	wantWalk(t, s, 1, 3, "a d", 2, api.OK)
 	want(t, "Attach(9)", s.Attach(9), api.OK)
 	want(t, "Create", s.Create(9, "new", true), api.OK)
-	a.bound = row{{dir: b}}
-	s.tree.root.bound = row{{dir: s.tree.root, leave: true}, {dir: b}}
+	bind(t, s, "b", "a", api.Replace, api.OK)
+	bind(t, s, "b", "", api.After, api.OK)
+	want(t, "Bind onto what was made", s.Bind(2, 9, api.Before), api.OK)
 	for _, way := range []string{"", ".", ". ."} {
 		wantWalk(t, s, 2, 2, way, len(strings.Fields(way)), api.OK)
 		wantWalk(t, s, 2, 4, "g", 0, api.ErrNone)
@@ -176,4 +182,6 @@ func TestP4RowsStayAsTheyWere(t *testing.T) {
 	wantWalk(t, s, 1, 6, "a d", 1, api.ErrNone)
 	want(t, "Attach(7)", s.Attach(7), api.OK)
 	wantWalk(t, s, 7, 8, "g", 1, api.OK)
+	wantList(t, s, 9, "", api.OK)
+	wantWalk(t, s, 1, 10, "new d", 2, api.OK)
 }

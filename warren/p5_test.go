@@ -92,11 +92,12 @@ func TestP5CreateWhereAllIsGone(t *testing.T) {
 // What is made in a row is made in its first member that may; a name that any member has is there already.
 func TestP5CreateInRows(t *testing.T) {
 	s := grown(t, "a/", "b/", "b/g", "c/", "d/")
-	a, b, c, d := dirAt(t, s, "a"), dirAt(t, s, "b"), dirAt(t, s, "c"), dirAt(t, s, "d")
-	a.bound = row{{dir: b}, {dir: c, leave: true}, {dir: a, leave: true}}
-	wantWalk(t, s, 1, 2, "a", 1, api.OK)
-	wantWalk(t, s, 1, 3, "a", 1, api.OK)
-	wantWalk(t, s, 1, 4, "a", 1, api.OK)
+	a, b, c := dirAt(t, s, "a"), dirAt(t, s, "b"), dirAt(t, s, "c")
+	bind(t, s, "c", "a", api.Before|api.Leave, api.OK)
+	bind(t, s, "b", "a", api.Before, api.OK)
+	for _, fid := range []int{2, 3, 4} {
+		wantWalk(t, s, 1, fid, "a", 1, api.OK)
+	}
 	want(t, "a name of the first member", s.Create(2, "g", true), api.ErrExists)
 	want(t, "a new name", s.Create(2, "x", true), api.OK)
 	if c.entries["x"] != s.fids[2].at.node || len(a.entries) != 0 || len(b.entries) != 1 {
@@ -104,18 +105,45 @@ func TestP5CreateInRows(t *testing.T) {
 	}
 	wantPath(t, s, 2, "/a/x open")
 	want(t, "a name of the second member", s.Create(3, "x", true), api.ErrExists)
-	c.gone = true
-	want(t, "a name of a member that is gone", s.Create(3, "x", true), api.OK)
-	if a.entries["x"] != s.fids[3].at.node {
-		t.Errorf("x is not made in the first member that is not gone")
-	}
-	d.bound = row{{dir: d}, {dir: b}, {dir: c, leave: true}}
+	bind(t, s, "d", "d", api.Replace, api.OK)
+	bind(t, s, "b", "d", api.After, api.OK)
 	wantWalk(t, s, 1, 5, "d", 1, api.OK)
 	want(t, "no member may", s.Create(5, "y", false), api.ErrDenied)
 	want(t, "a name that is there where no member may", s.Create(5, "g", false), api.ErrExists)
 	wantPath(t, s, 5, "/d")
-	a.bound = row{}
+	bind(t, s, "c", "d", api.After|api.Leave, api.OK)
+	wantWalk(t, s, 1, 6, "d", 1, api.OK)
+	want(t, "the last member alone may", s.Create(6, "y", false), api.OK)
+	if c.entries["y"] != s.fids[6].at.node {
+		t.Errorf("y is not made in the last member")
+	}
+	want(t, "the row as it was when it was come to", s.Create(5, "z", false), api.ErrDenied)
+	unbind(t, s, "a", api.OK)
+	unbind(t, s, "d", api.OK)
+	for _, names := range []string{"c x", "c y", "c"} {
+		lose(t, s, names)
+	}
+	want(t, "a name of a member that is gone", s.Create(3, "x", true), api.OK)
+	if a.entries["x"] != s.fids[3].at.node || len(c.entries) != 0 {
+		t.Errorf("x is not made in the first member that is not gone")
+	}
+	bind(t, s, "b", "a", api.Replace, api.OK)
 	want(t, "the row as it was when it was come to", s.Create(4, "z", false), api.OK)
+	if a.entries["z"] != s.fids[4].at.node {
+		t.Errorf("z is not made in the row as it was")
+	}
+}
+
+// The only member that had leave is gone: no other one takes its stead.
+func TestP5CreateWhereTheMakerIsGone(t *testing.T) {
+	s := grown(t, "a/", "b/", "c/")
+	bind(t, s, "b", "a", api.Replace|api.Leave, api.OK)
+	bind(t, s, "c", "a", api.After, api.OK)
+	wantWalk(t, s, 1, 2, "a", 1, api.OK)
+	unbind(t, s, "a", api.OK)
+	lose(t, s, "b")
+	want(t, "Create", s.Create(2, "x", false), api.ErrDenied)
+	wantSeen(t, s, 2, 1, "")
 }
 
 func TestP5HundredNodes(t *testing.T) {

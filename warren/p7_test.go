@@ -50,43 +50,46 @@ func TestP7ListIsSorted(t *testing.T) {
 // A row's entries are told member by member, each name once, where it comes first; members that are gone are passed over.
 func TestP7ListOfRows(t *testing.T) {
 	s := grown(t, "a/", "a/f", "a/m", "b/", "b/g", "b/f", "b/c", "e/", "d/", "d/z", "d/a", "d/m")
-	a, b, e, d := dirAt(t, s, "a"), dirAt(t, s, "b"), dirAt(t, s, "e"), dirAt(t, s, "d")
-	for _, c := range []struct {
-		row  row
-		want string
-	}{
-		{row{{dir: a}, {dir: b}}, "f m c g"},
-		{row{{dir: b}, {dir: a}}, "c f g m"},
-		{row{{dir: d}, {dir: a}, {dir: b}}, "a m z f c g"},
-		{row{{dir: e}, {dir: b}}, "c f g"},
-		{row{{dir: b}, {dir: b}, {dir: e}}, "c f g"},
-		{row{{dir: e}}, ""},
-		{row{{dir: d, leave: true}}, "a m z"},
+	for _, c := range []struct{ row, want string }{
+		{"a b", "f m c g"},
+		{"b a", "c f g m"},
+		{"d a b", "a m z f c g"},
+		{"e b", "c f g"},
+		{"b b e", "c f g"},
+		{"e", ""},
+		{"d", "a m z"},
 	} {
-		a.bound = c.row
-		opened(t, s, 2, "a")
-		wantList(t, s, 2, c.want, api.OK)
-		wantStat(t, s, 2, api.Stat{Name: "a", Dir: true, Row: len(c.row)}, api.OK)
+		members := strings.Fields(c.row)
+		lay(t, s, "a", members)
+		wantWalk(t, s, 1, 2, "a", 1, api.OK)
+		wantSeen(t, s, 2, len(members), c.want)
 		want(t, "Clunk(2)", s.Clunk(2), api.OK)
 	}
-	a.bound = row{{dir: b}, {dir: e}, {dir: d}, {dir: e}}
-	opened(t, s, 2, "a")
-	a.bound = nil
-	opened(t, s, 3, "a")
-	wantList(t, s, 2, "c f g a m z", api.OK)
-	wantList(t, s, 3, "f m", api.OK)
-	wantStat(t, s, 2, api.Stat{Name: "a", Dir: true, Row: 4}, api.OK)
-	wantStat(t, s, 3, api.Stat{Name: "a", Dir: true, Row: 1}, api.OK)
-	for _, n := range []string{"e", "b g", "b f", "b c", "b"} {
-		lose(t, s, n)
+	lay(t, s, "a", []string{"b", "e", "d", "e"})
+	wantWalk(t, s, 1, 2, "a", 1, api.OK)
+	unbind(t, s, "a", api.OK)
+	wantWalk(t, s, 1, 3, "a", 1, api.OK)
+	wantSeen(t, s, 2, 4, "c f g a m z")
+	wantSeen(t, s, 3, 1, "f m")
+	for _, names := range []string{"e", "b g", "b f", "b c", "b"} {
+		lose(t, s, names)
 	}
-	wantList(t, s, 2, "a m z", api.OK)
-	wantStat(t, s, 2, api.Stat{Name: "a", Dir: true, Row: 1}, api.OK)
-	for _, n := range []string{"d z", "d a", "d m", "d"} {
-		lose(t, s, n)
+	wantSeen(t, s, 2, 1, "a m z")
+	for _, names := range []string{"d z", "d a", "d m", "d"} {
+		lose(t, s, names)
 	}
-	wantList(t, s, 2, "", api.OK)
+	wantSeen(t, s, 2, 0, "")
 	wantStat(t, s, 2, api.Stat{Name: "a", Dir: true}, api.OK)
+}
+
+// lay lets a directory's row be those members.
+func lay(t *testing.T, s *Server, onto string, members []string) {
+	t.Helper()
+	how := api.Replace
+	for _, m := range members {
+		bind(t, s, m, onto, how, api.OK)
+		how = api.After
+	}
 }
 
 func TestP7ListErrors(t *testing.T) {

@@ -90,37 +90,36 @@ func TestP8Errors(t *testing.T) {
 	want(t, "Remove of the root alone", s.Remove(1), api.ErrDenied)
 	want(t, "Attach(1)", s.Attach(1), api.OK)
 	wantStat(t, s, 1, api.Stat{Name: "/", Dir: true, Row: 1}, api.OK)
-	s.tree.root.bound = row{{dir: s.tree.root}}
+	bind(t, s, "", "", api.Replace, api.OK)
 	want(t, "Remove of the root, onto which something is bound", s.Remove(1), api.ErrDenied)
 }
 
 // A directory is busy if something is bound onto it, or if it is a member of a row as it is now: by its own node, wherever the other one lies.
 func TestP8Bound(t *testing.T) {
 	s := grown(t, "a/", "b/", "c/", "c/d/", "e/")
-	a, b, d, root := dirAt(t, s, "a"), dirAt(t, s, "b"), dirAt(t, s, "c d"), s.tree.root
 	try := func(names string, e api.Errno) {
 		t.Helper()
 		opened(t, s, 2, names)
 		want(t, "Remove of "+names, s.Remove(2), e)
 		wantPath(t, s, 2, "nowhere")
 	}
-	a.bound = row{{dir: a, leave: true}, {dir: b}}
+	bind(t, s, "b", "a", api.After, api.OK)
 	try("a", api.ErrBusy)
 	try("b", api.ErrBusy)
-	a.bound = row{{dir: a, leave: true}}
+	bind(t, s, "a", "a", api.Replace|api.Leave, api.OK)
 	try("a", api.ErrBusy)
-	a.bound = row{{dir: b}}
+	bind(t, s, "b", "a", api.Replace, api.OK)
 	try("a", api.ErrBusy)
 	try("b", api.ErrBusy)
-	a.bound = nil
-	d.bound = row{{dir: a, leave: true}, {dir: b}, {dir: a}}
+	unbind(t, s, "a", api.OK)
+	lay(t, s, "c d", []string{"a", "b", "a"})
 	try("a", api.ErrBusy)
 	try("b", api.ErrBusy)
 	try("c d", api.ErrBusy)
-	d.bound = nil
-	root.bound = row{{dir: root, leave: true}, {dir: b}}
+	unbind(t, s, "c d", api.OK)
+	bind(t, s, "b", "", api.After, api.OK)
 	try("b", api.ErrBusy)
-	root.bound = nil
+	unbind(t, s, "", api.OK)
 	wantWalk(t, s, 1, 3, "c d", 2, api.OK)
 	try("c d", api.OK)
 	try("e", api.OK)
@@ -130,15 +129,29 @@ func TestP8Bound(t *testing.T) {
 	want(t, "Open of a gone one", s.Open(3), api.ErrGone)
 }
 
+// What lies in a directory that is bound may be removed, also by the row in which it is seen; it is an entry of its own directory alone.
+func TestP8EntriesSeenInRows(t *testing.T) {
+	s := grown(t, "a/", "a/f", "b/", "b/f", "b/g")
+	fill(t, s, "a f", "a's")
+	bind(t, s, "b", "a", api.Before, api.OK)
+	lose(t, s, "a f")
+	opened(t, s, 2, "a f")
+	wantRead(t, s, 2, 0, 9, "a's", api.OK)
+	wantWalk(t, s, 1, 3, "b f", 1, api.ErrNone)
+	lose(t, s, "a g")
+	wantWalk(t, s, 1, 3, "b g", 1, api.ErrNone)
+	wantWalk(t, s, 1, 3, "b", 1, api.OK)
+	want(t, "Remove of b, empty and bound", s.Remove(3), api.ErrBusy)
+}
+
 // What a fid saw when it came to its place does not keep it from being removed.
 func TestP8RowsAsTheyWereDontCount(t *testing.T) {
 	s := grown(t, "a/", "b/", "b/f")
-	a, b := dirAt(t, s, "a"), dirAt(t, s, "b")
-	a.bound = row{{dir: a, leave: true}, {dir: b}}
+	bind(t, s, "b", "a", api.After, api.OK)
 	opened(t, s, 2, "a")
 	wantWalk(t, s, 1, 3, "a f", 2, api.OK)
 	wantWalk(t, s, 1, 4, "a", 1, api.OK)
-	a.bound = nil
+	unbind(t, s, "a", api.OK)
 	lose(t, s, "a")
 	wantWalk(t, s, 3, 5, "..", 1, api.OK)
 	wantStat(t, s, 5, api.Stat{}, api.ErrGone)

@@ -60,6 +60,14 @@ func (p *place) stat() api.Stat {
 	return out
 }
 
+// used tells how many bytes lie at the place: of a directory, in what is seen there.
+func (p *place) used() int {
+	if _, ok := p.node.(*directory); ok {
+		return p.row.used()
+	}
+	return p.node.used()
+}
+
 // step goes on by one name.
 func (p *place) step(name string) (*place, api.Errno) {
 	switch name {

@@ -54,6 +54,15 @@ func (r row) count() int {
 	return n
 }
 
+// used tells how many bytes lie in the members, each of them counted each time. One that is gone has no entries.
+func (r row) used() int {
+	sum := 0
+	for _, m := range r {
+		sum += m.dir.used()
+	}
+	return sum
+}
+
 // list tells the names of the entries, member by member, each where it comes first.
 func (r row) list() []string {
 	var out []string

@@ -197,17 +197,47 @@ func (s *Server) Clunk(fid int) api.Errno {
 
 // Bind lays a directory over or under another one (P9).
 func (s *Server) Bind(from int, onto int, how int) api.Errno {
-	return s.unbuilt(from, onto)
+	if s == nil {
+		return api.ErrClosed
+	}
+	s.enter()
+	defer s.leave()
+	dirs, e := s.directories(from, onto)
+	if e != api.OK {
+		return e
+	}
+	return dirs[1].bind(dirs[0], how)
 }
 
 // Unbind takes all away that lies over a directory (P9).
 func (s *Server) Unbind(onto int) api.Errno {
-	return s.unbuilt(onto)
+	if s == nil {
+		return api.ErrClosed
+	}
+	s.enter()
+	defer s.leave()
+	dirs, e := s.directories(onto)
+	if e != api.OK {
+		return e
+	}
+	return dirs[0].unbind()
 }
 
 // Used tells how many bytes lie in a node (P10).
 func (s *Server) Used(fid int) (int, api.Errno) {
-	return 0, s.unbuilt(fid)
+	if s == nil {
+		return 0, api.ErrClosed
+	}
+	s.enter()
+	defer s.leave()
+	held := s.standing(fid)
+	switch {
+	case held == nil:
+		return 0, api.ErrFid
+	case held.at.node.isGone():
+		return 0, api.ErrGone
+	}
+	return held.at.used(), api.OK
 }
 
 // Calls tells how many calls there were (P10).
@@ -233,19 +263,4 @@ func (s *Server) leave() {
 // plant makes the tree.
 func (s *Server) plant() {
 	s.tree = newTree()
-}
-
-// unbuilt stands in for the calls that don't do their work yet: they are counted, and tell of fids that stand nowhere.
-func (s *Server) unbuilt(fids ...int) api.Errno {
-	if s == nil {
-		return api.ErrClosed
-	}
-	s.enter()
-	defer s.leave()
-	for _, fid := range fids {
-		if s.standing(fid) == nil {
-			return api.ErrFid
-		}
-	}
-	return api.OK
 }
